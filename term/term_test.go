@@ -207,6 +207,24 @@ func TestCopy(t *testing.T) {
 	}
 }
 
+// P1.1: at no size do an arena and its copy share the space behind their terms.
+func TestCopySharesNothing(t *testing.T) {
+	a := term.New(api.MaxTerms)
+	for range 100 {
+		b := a.Copy()
+		before := nodes(t, a)
+		x, y := name(t, a, uint64(a.Len())), word(t, b, uint64(b.Len()))
+		inA, _ := a.Get(x)
+		inB, _ := b.Get(y)
+		if inA.Kind != term.Name || inB.Kind != term.Word {
+			t.Fatalf("at %d terms: %v and %v", len(before), inA, inB)
+		}
+		if !slices.Equal(nodes(t, a)[:x], before) || !slices.Equal(nodes(t, b)[:y], before) {
+			t.Fatalf("at %d terms: earlier terms changed", len(before))
+		}
+	}
+}
+
 // reference compares as the chapter says it, part by part.
 func reference(a *term.Arena, x, y int) int {
 	if x == y {
